@@ -1,0 +1,1 @@
+"""Wheels behind the dial of a combination lock that push one another."""

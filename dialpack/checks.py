@@ -1,0 +1,107 @@
+"""Tells what the values of all modules are, and raises the errors of those that are not.
+
+A check of a state, of gates or of a wheel takes a lock that is checked already.
+"""
+
+from dialpack.errors import (
+    InvalidDial, InvalidGates, InvalidLock, InvalidNumber, InvalidState, InvalidTurn, InvalidTurns, InvalidWheel,
+)
+
+LEAST_RING = 2
+MOST_WHEELS = 8
+MOST_TURNS = 60
+
+
+def is_integer(value):
+    # To Python True and False are ints; here they are no integers.
+    return isinstance(value, int) and not isinstance(value, bool)
+
+
+def is_at_least(value, least):
+    return is_integer(value) and value >= least
+
+
+def is_within(value, least, greatest):
+    return is_integer(value) and least <= value <= greatest
+
+
+def is_turn(value):
+    return is_integer(value) and value != 0
+
+
+def is_pair(value):
+    return isinstance(value, tuple) and len(value) == 2
+
+
+def are_plays(value):
+    if not isinstance(value, list) or not 1 <= len(value) <= MOST_WHEELS:
+        return False
+    return all([is_at_least(play, 0) for play in value])
+
+
+def are_places(plays, dial, value):
+    if not isinstance(value, list) or len(value) != len(plays):
+        return False
+    ahead = dial
+    for play, place in zip(plays, value):
+        if not is_integer(place) or not 0 <= ahead - place <= play:
+            return False
+        ahead = place
+    return True
+
+
+def check_lock(lock):
+    if not is_pair(lock):
+        raise InvalidLock(None)
+    ring, plays = lock
+    if not is_at_least(ring, LEAST_RING):
+        raise InvalidLock(0)
+    if not are_plays(plays):
+        raise InvalidLock(1)
+
+
+def check_wheel(lock, wheel):
+    if not is_within(wheel, 1, len(lock[1])):
+        raise InvalidWheel("the wheel must be an integer from 1 to the number of wheels")
+
+
+def check_state(lock, state):
+    if not is_pair(state):
+        raise InvalidState(None)
+    dial, places = state
+    if not is_integer(dial):
+        raise InvalidState(0)
+    if not are_places(lock[1], dial, places):
+        raise InvalidState(1)
+
+
+def check_dial(dial):
+    if not is_integer(dial):
+        raise InvalidDial("the dial must be an integer")
+
+
+def check_turn(turn):
+    if not is_turn(turn):
+        raise InvalidTurn("the turn must be an integer other than 0")
+
+
+def check_turns(turns):
+    if not isinstance(turns, list) or len(turns) > MOST_TURNS:
+        raise InvalidTurns(None)
+    for index, turn in enumerate(turns):
+        if not is_turn(turn):
+            raise InvalidTurns(index)
+
+
+def check_gates(lock, gates):
+    ring, plays = lock
+    if not isinstance(gates, list) or len(gates) != len(plays):
+        raise InvalidGates(None)
+    for index, gate in enumerate(gates):
+        if not is_within(gate, 0, ring - 1):
+            raise InvalidGates(index)
+
+
+def check_tolerance(ring, tolerance):
+    if not is_within(tolerance, 0, (ring - 1) // 2):
+        raise InvalidNumber("the tolerance must be an integer from 0 to (ring - 1) // 2")

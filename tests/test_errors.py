@@ -1,0 +1,131 @@
+"""Point 3: the errors."""
+
+import unittest
+
+from dialpack import errors
+from dialpack.errors import LockError
+from dialpack.locks import is_lock, is_open, is_state, numbers_of, pushed_back, pushed_up, reach_of
+from dialpack.turning import click_row, joined_turns, moved_wheels, state_trail, turned_state, way_of
+from tests.support import PointCase
+
+OF_A_STRING = [
+    "InvalidWheel", "InvalidDial", "InvalidTurn", "InvalidNumber", "Impossible", "NothingToUndo", "InvalidCommand",
+]
+FIELDS = {
+    "InvalidLock": "index", "InvalidState": "index", "InvalidTurns": "index", "InvalidGates": "index",
+    "InvalidSpans": "index", "InvalidTries": "index", "InvalidSyntax": "word",
+}
+
+
+class ErrorClasses(PointCase):
+    def test_base(self):
+        self.assertEqual(LockError.__bases__, (ValueError,))
+        error = LockError("why")
+        self.assertEqual(str(error), "why")
+        self.assertEqual(vars(error), {})
+
+    def test_each_is_directly_under_the_base(self):
+        for name in [*OF_A_STRING, *FIELDS]:
+            with self.subTest(name):
+                self.assertEqual(getattr(errors, name).__bases__, (LockError,))
+                self.assertEqual(getattr(errors, name).__module__, "dialpack.errors")
+
+    def test_of_a_string(self):
+        for name in OF_A_STRING:
+            with self.subTest(name):
+                error = getattr(errors, name)("why")
+                self.assertIsInstance(error, LockError)
+                self.assertIsInstance(error, ValueError)
+                self.assertEqual(str(error), "why")
+                self.assertEqual(vars(error), {})
+
+    def test_of_a_field(self):
+        for name, field in FIELDS.items():
+            error_class = getattr(errors, name)
+            for worth in (None, 0, 1, 59):
+                with self.subTest(name, worth=worth):
+                    for error in (error_class(worth), error_class(**{field: worth})):
+                        self.assertIsInstance(error, LockError)
+                        self.assertIsInstance(error, ValueError)
+                        self.assert_same(vars(error), {field: worth})
+                        self.assertIsInstance(str(error), str)
+
+    def test_field_is_needed(self):
+        for name in FIELDS:
+            with self.subTest(name):
+                self.assertRaises(TypeError, getattr(errors, name))
+                self.assertRaises(TypeError, getattr(errors, name), 0, 1)
+
+    def test_can_be_caught_as_a_value_error(self):
+        for name in [*OF_A_STRING, *FIELDS]:
+            with self.subTest(name), self.assertRaises(ValueError):
+                raise getattr(errors, name)("why")
+
+    def test_there_are_no_others(self):
+        found = [name for name, value in vars(errors).items() if isinstance(value, type)]
+        self.assertEqual(sorted(found), sorted(["LockError", *OF_A_STRING, *FIELDS]))
+
+
+LOCK, STATE = (100, [90, 90, 90]), (300, [210, 120, 30])
+
+# Each function with valid arguments, and for each argument a value that is wrong, with its error.
+BAD_LOCK = ((100, []), errors.InvalidLock(1))
+BAD_STATE = ((300, [210, 120, 29]), errors.InvalidState(1))
+BAD_TURNS = ([5, 0], errors.InvalidTurns(1))
+BAD_TURN = (0, errors.InvalidTurn("0"))
+BAD_DIAL = (None, errors.InvalidDial("None"))
+CALLS = [
+    (reach_of, (LOCK, 1), [BAD_LOCK, (4, errors.InvalidWheel("4"))]),
+    (is_state, (LOCK, STATE), [BAD_LOCK]),
+    (numbers_of, (LOCK, STATE), [BAD_LOCK, BAD_STATE]),
+    (pushed_up, (LOCK, 0), [BAD_LOCK, BAD_DIAL]),
+    (pushed_back, (LOCK, 0), [BAD_LOCK, BAD_DIAL]),
+    (is_open, (LOCK, STATE, [10, 20, 30], 0), [
+        BAD_LOCK, BAD_STATE, ([10, 100, -1], errors.InvalidGates(1)), (50, errors.InvalidNumber("50")),
+    ]),
+    (turned_state, (LOCK, STATE, [5]), [BAD_LOCK, BAD_STATE, BAD_TURNS]),
+    (state_trail, (LOCK, STATE, [5]), [BAD_LOCK, BAD_STATE, BAD_TURNS]),
+    (way_of, ([5],), [BAD_TURNS]),
+    (joined_turns, ([5],), [BAD_TURNS]),
+    (moved_wheels, (LOCK, STATE, 5), [BAD_LOCK, BAD_STATE, BAD_TURN]),
+    (click_row, (LOCK, STATE, 5), [BAD_LOCK, BAD_STATE, BAD_TURN]),
+]
+
+
+class ErrorOrder(PointCase):
+    def test_each_argument_alone(self):
+        for function, args, bad in CALLS:
+            for at, (value, error) in enumerate(bad):
+                with self.subTest(function.__name__, at=at):
+                    self.call(function, *args)
+                    self.check_error(error, function, *args[:at], value, *args[at + 1:])
+
+    def test_the_first_of_several(self):
+        for function, args, bad in CALLS:
+            for at, (_, error) in enumerate(bad):
+                with self.subTest(function.__name__, at=at):
+                    wrong = [value for value, _ in bad[at:]]
+                    self.check_error(error, function, *args[:at], *wrong, *args[at + len(wrong):])
+
+    def test_the_first_of_any_two(self):
+        for function, args, bad in CALLS:
+            for first, (_, error) in enumerate(bad):
+                for second in range(first + 1, len(bad)):
+                    with self.subTest(function.__name__, first=first, second=second):
+                        wrong = list(args)
+                        wrong[first] = bad[first][0]
+                        wrong[second] = bad[second][0]
+                        self.check_error(error, function, *wrong)
+
+    def test_all_arguments_of_no_kind_at_all(self):
+        for function, args, _ in CALLS:
+            with self.subTest(function.__name__):
+                error = errors.InvalidTurns(None) if len(args) == 1 else errors.InvalidLock(None)
+                self.check_error(error, function, *[None for _ in args])
+
+    def test_is_lock_raises_no_error(self):
+        self.check(False, is_lock, None)
+
+
+if __name__ == "__main__":
+    unittest.main()

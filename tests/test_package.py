@@ -1,0 +1,76 @@
+"""The interface by its names and arguments, and what ../shared/LANGUAGE.md says that can simply be counted."""
+
+import ast
+import importlib
+import inspect
+import pathlib
+import re
+import unittest
+
+LIBRARY = ("heapq", "math", "itertools", "collections")
+PACKAGE = pathlib.Path(__file__).resolve().parent.parent / "dialpack"
+
+INTERFACE = {
+    "locks": {
+        "is_lock": ["value"], "is_state": ["lock", "value"], "is_open": ["lock", "state", "gates", "tolerance"],
+        "reach_of": ["lock", "wheel"], "numbers_of": ["lock", "state"],
+        "pushed_up": ["lock", "dial"], "pushed_back": ["lock", "dial"],
+    },
+    "turning": {
+        "turned_state": ["lock", "state", "turns"], "state_trail": ["lock", "state", "turns"],
+        "way_of": ["turns"], "joined_turns": ["turns"],
+        "moved_wheels": ["lock", "state", "turn"], "click_row": ["lock", "state", "turn"],
+    },
+}
+
+
+def sources():
+    return sorted(path for path in PACKAGE.rglob("*") if path.is_file() and "__pycache__" not in path.parts)
+
+
+class Interface(unittest.TestCase):
+    def test_functions(self):
+        for name, functions in INTERFACE.items():
+            module = importlib.import_module("dialpack." + name)
+            for function, names in functions.items():
+                with self.subTest(module=name, function=function):
+                    found = getattr(module, function)
+                    self.assertTrue(inspect.isfunction(found))
+                    self.assertEqual(found.__module__, module.__name__)
+                    self.assertEqual(list(inspect.signature(found).parameters), names)
+
+
+class Language(unittest.TestCase):
+    def test_files(self):
+        for path in sources():
+            with self.subTest(path.name):
+                self.assertRegex(path.name, r"\A[a-z0-9_]+\.py\Z")
+
+    def test_sizes_and_characters(self):
+        for path in sources():
+            text = path.read_bytes().decode("ascii")
+            lines = text.split("\n")
+            with self.subTest(path.name):
+                self.assertLessEqual(len(lines), 400)
+                self.assertLessEqual(max(map(len, lines)), 120)
+                self.assertFalse(re.search(r"[^\n -~]", text))
+
+    def test_functions(self):
+        for path in sources():
+            for node in ast.walk(ast.parse(path.read_text())):
+                if isinstance(node, ast.FunctionDef):
+                    with self.subTest(path.name, function=node.name):
+                        self.assertLessEqual(node.end_lineno - node.lineno + 1, 40)
+
+    def test_imports(self):
+        for path in sources():
+            for node in ast.walk(ast.parse(path.read_text())):
+                self.assertNotIsInstance(node, ast.Import, path.name)
+                if isinstance(node, ast.ImportFrom):
+                    with self.subTest(path.name, module=node.module):
+                        self.assertEqual(node.level, 0)
+                        self.assertTrue(node.module.startswith("dialpack.") or node.module in LIBRARY)
+
+
+if __name__ == "__main__":
+    unittest.main()
