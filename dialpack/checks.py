@@ -1,10 +1,11 @@
 """Tells what the values of all modules are, and raises the errors of those that are not.
 
-A check of a state, of gates or of a wheel takes a lock that is checked already.
+A check of a state, of spans, of gates or of a wheel takes a lock that is checked already.
 """
 
 from dialpack.errors import (
-    InvalidDial, InvalidGates, InvalidLock, InvalidNumber, InvalidState, InvalidTurn, InvalidTurns, InvalidWheel,
+    InvalidDial, InvalidGates, InvalidLock, InvalidNumber, InvalidSpans, InvalidState, InvalidTurn, InvalidTurns,
+    InvalidWheel,
 )
 
 LEAST_RING = 2
@@ -31,6 +32,10 @@ def is_turn(value):
 
 def is_pair(value):
     return isinstance(value, tuple) and len(value) == 2
+
+
+def is_span(value):
+    return is_pair(value) and is_integer(value[0]) and is_integer(value[1]) and value[0] <= value[1]
 
 
 def are_plays(value):
@@ -80,6 +85,17 @@ def check_dial(dial):
         raise InvalidDial("the dial must be an integer")
 
 
+def check_spans(lock, spans):
+    # No spans at all are None: nothing is known of the wheels.
+    if spans is None:
+        return
+    if not isinstance(spans, list) or len(spans) != len(lock[1]):
+        raise InvalidSpans(None)
+    for index, span in enumerate(spans):
+        if not is_span(span):
+            raise InvalidSpans(index)
+
+
 def check_turn(turn):
     if not is_turn(turn):
         raise InvalidTurn("the turn must be an integer other than 0")
@@ -100,6 +116,11 @@ def check_gates(lock, gates):
     for index, gate in enumerate(gates):
         if not is_within(gate, 0, ring - 1):
             raise InvalidGates(index)
+
+
+def check_number(number, greatest):
+    if not is_within(number, 0, greatest):
+        raise InvalidNumber("the number must be an integer from 0 to the greatest one that is possible")
 
 
 def check_tolerance(ring, tolerance):

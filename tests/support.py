@@ -3,6 +3,7 @@
 import doctest
 import inspect
 import unittest
+from itertools import product
 
 # Values of other kinds than an integer, a list or a tuple of two items.
 OTHER_KINDS = [None, True, False, "", "0", "ab", b"0", 1.0, 0.5, 1j, {}, {0: 1}, {0}, frozenset(), range(2), object(), int]
@@ -19,6 +20,12 @@ def list_ids(value):
     if isinstance(value, tuple):
         return [found for item in value for found in list_ids(item)]
     return []
+
+
+def states_at(lock, dial):
+    """All states of a lock with this dial."""
+    for gaps in product(*[range(play + 1) for play in lock[1]]):
+        yield dial, [dial - sum(gaps[:wheel]) for wheel in range(1, len(gaps) + 1)]
 
 
 class PointCase(unittest.TestCase):

@@ -3,9 +3,15 @@
 import unittest
 
 from dialpack import errors
+from dialpack.combos import can_dial, dial_count, forbidden_numbers, gates_rank, nth_gates, open_state
+from dialpack.dialing import goal_turns, goal_way
+from dialpack.effects import effect_of, same_effect, shows_telling, telling_state
 from dialpack.errors import LockError
 from dialpack.locks import is_lock, is_open, is_state, numbers_of, pushed_back, pushed_up, reach_of
 from dialpack.turning import click_row, joined_turns, moved_wheels, state_trail, turned_state, way_of
+from dialpack.unseen import (
+    can_open, gathered_from, gathered_wheels, is_gathered, must_open, open_start, shows_start, wheel_spans,
+)
 from tests.support import PointCase
 
 OF_A_STRING = [
@@ -72,8 +78,15 @@ LOCK, STATE = (100, [90, 90, 90]), (300, [210, 120, 30])
 BAD_LOCK = ((100, []), errors.InvalidLock(1))
 BAD_STATE = ((300, [210, 120, 29]), errors.InvalidState(1))
 BAD_TURNS = ([5, 0], errors.InvalidTurns(1))
+OTHER_BAD_TURNS = ([0], errors.InvalidTurns(0))
+OTHER_BAD_STATE = ((None, [210, 120, 29]), errors.InvalidState(0))
 BAD_TURN = (0, errors.InvalidTurn("0"))
 BAD_DIAL = (None, errors.InvalidDial("None"))
+BAD_SPANS = ([(0, 0), (0, 0), (0, -1)], errors.InvalidSpans(2))
+BAD_GATES = ([10, 100, -1], errors.InvalidGates(1))
+BAD_NUMBER = (-1, errors.InvalidNumber("-1"))
+UNSEEN, BAD_UNSEEN = (LOCK, 0, None, [5]), [BAD_LOCK, BAD_DIAL, BAD_SPANS, BAD_TURNS]
+OPENING, BAD_OPENING = (*UNSEEN, [3, 50, 61], 0), [*BAD_UNSEEN, BAD_GATES, BAD_NUMBER]
 CALLS = [
     (reach_of, (LOCK, 1), [BAD_LOCK, (4, errors.InvalidWheel("4"))]),
     (is_state, (LOCK, STATE), [BAD_LOCK]),
@@ -81,7 +94,7 @@ CALLS = [
     (pushed_up, (LOCK, 0), [BAD_LOCK, BAD_DIAL]),
     (pushed_back, (LOCK, 0), [BAD_LOCK, BAD_DIAL]),
     (is_open, (LOCK, STATE, [10, 20, 30], 0), [
-        BAD_LOCK, BAD_STATE, ([10, 100, -1], errors.InvalidGates(1)), (50, errors.InvalidNumber("50")),
+        BAD_LOCK, BAD_STATE, BAD_GATES, (50, errors.InvalidNumber("50")),
     ]),
     (turned_state, (LOCK, STATE, [5]), [BAD_LOCK, BAD_STATE, BAD_TURNS]),
     (state_trail, (LOCK, STATE, [5]), [BAD_LOCK, BAD_STATE, BAD_TURNS]),
@@ -89,6 +102,37 @@ CALLS = [
     (joined_turns, ([5],), [BAD_TURNS]),
     (moved_wheels, (LOCK, STATE, 5), [BAD_LOCK, BAD_STATE, BAD_TURN]),
     (click_row, (LOCK, STATE, 5), [BAD_LOCK, BAD_STATE, BAD_TURN]),
+    (effect_of, (LOCK, [5]), [BAD_LOCK, BAD_TURNS]),
+    (same_effect, (LOCK, [5], [5]), [BAD_LOCK, BAD_TURNS, OTHER_BAD_TURNS]),
+    (telling_state, (LOCK, [5], [5]), [BAD_LOCK, BAD_TURNS, OTHER_BAD_TURNS]),
+    (shows_telling, (LOCK, [5], [5], STATE), [BAD_LOCK, BAD_TURNS, OTHER_BAD_TURNS]),
+    (wheel_spans, UNSEEN, BAD_UNSEEN),
+    (gathered_wheels, (LOCK, [5]), [BAD_LOCK, BAD_TURNS]),
+    (is_gathered, (LOCK, [5]), [BAD_LOCK, BAD_TURNS]),
+    (gathered_from, (LOCK, [5]), [BAD_LOCK, BAD_TURNS]),
+    (must_open, OPENING, BAD_OPENING),
+    (can_open, OPENING, BAD_OPENING),
+    (open_start, OPENING, BAD_OPENING),
+    (shows_start, (*OPENING, STATE), BAD_OPENING),
+    (forbidden_numbers, (LOCK, 2, 0), [BAD_LOCK, (1, errors.InvalidWheel("1")), BAD_NUMBER]),
+    (can_dial, (LOCK, [3, 50, 61], 0), [BAD_LOCK, BAD_GATES, BAD_NUMBER]),
+    (open_state, (LOCK, [3, 50, 61], 0), [BAD_LOCK, BAD_GATES, BAD_NUMBER]),
+    (dial_count, (LOCK,), [BAD_LOCK]),
+    (nth_gates, (LOCK, 0), [BAD_LOCK, BAD_NUMBER]),
+    (gates_rank, (LOCK, [3, 50, 61]), [BAD_LOCK, BAD_GATES]),
+    (goal_turns, (LOCK, STATE, STATE), [BAD_LOCK, BAD_STATE, OTHER_BAD_STATE]),
+    (goal_way, (LOCK, STATE, STATE), [BAD_LOCK, BAD_STATE, OTHER_BAD_STATE]),
+]
+
+# Calls that are impossible as they stand.
+UNFIT, WEDGED = [(1, 1), (0, 0), (0, 0)], [3, 50, 57]
+IMPOSSIBLE = [
+    (wheel_spans, (LOCK, 0, UNFIT, [5]), BAD_UNSEEN),
+    (must_open, (LOCK, 0, UNFIT, [5], WEDGED, 0), BAD_OPENING),
+    (can_open, (LOCK, 0, UNFIT, [5], WEDGED, 0), BAD_OPENING),
+    (open_start, (LOCK, 0, UNFIT, [5], WEDGED, 0), BAD_OPENING),
+    (shows_start, (LOCK, 0, UNFIT, [5], WEDGED, 0, STATE), BAD_OPENING),
+    (gates_rank, (LOCK, WEDGED), [BAD_LOCK, BAD_GATES]),
 ]
 
 
@@ -120,8 +164,16 @@ class ErrorOrder(PointCase):
     def test_all_arguments_of_no_kind_at_all(self):
         for function, args, _ in CALLS:
             with self.subTest(function.__name__):
-                error = errors.InvalidTurns(None) if len(args) == 1 else errors.InvalidLock(None)
+                error = errors.InvalidTurns(None) if function in (way_of, joined_turns) else errors.InvalidLock(None)
                 self.check_error(error, function, *[None for _ in args])
+
+    def test_impossible_stands_behind_all_others(self):
+        for function, args, bad in IMPOSSIBLE:
+            with self.subTest(function.__name__):
+                self.check_error(errors.Impossible(""), function, *args)
+            for at, (value, error) in enumerate(bad):
+                with self.subTest(function.__name__, at=at):
+                    self.check_error(error, function, *args[:at], value, *args[at + 1:])
 
     def test_is_lock_raises_no_error(self):
         self.check(False, is_lock, None)

@@ -21,6 +21,24 @@ INTERFACE = {
         "way_of": ["turns"], "joined_turns": ["turns"],
         "moved_wheels": ["lock", "state", "turn"], "click_row": ["lock", "state", "turn"],
     },
+    "effects": {
+        "effect_of": ["lock", "turns"], "same_effect": ["lock", "one", "other"],
+        "telling_state": ["lock", "one", "other"], "shows_telling": ["lock", "one", "other", "value"],
+    },
+    "unseen": {
+        "wheel_spans": ["lock", "dial", "spans", "turns"], "gathered_wheels": ["lock", "turns"],
+        "is_gathered": ["lock", "turns"], "gathered_from": ["lock", "turns"],
+        "must_open": ["lock", "dial", "spans", "turns", "gates", "tolerance"],
+        "can_open": ["lock", "dial", "spans", "turns", "gates", "tolerance"],
+        "open_start": ["lock", "dial", "spans", "turns", "gates", "tolerance"],
+        "shows_start": ["lock", "dial", "spans", "turns", "gates", "tolerance", "value"],
+    },
+    "combos": {
+        "forbidden_numbers": ["lock", "wheel", "number"], "can_dial": ["lock", "gates", "tolerance"],
+        "open_state": ["lock", "gates", "tolerance"], "dial_count": ["lock"], "gates_rank": ["lock", "gates"],
+        "nth_gates": ["lock", "index"],
+    },
+    "dialing": {"goal_turns": ["lock", "state", "goal"], "goal_way": ["lock", "state", "goal"]},
 }
 
 
