@@ -1,16 +1,17 @@
 """Tells what the values of all modules are, and raises the errors of those that are not.
 
-A check of a state, of spans, of gates or of a wheel takes a lock that is checked already.
+A check of a state, of spans, of gates, of tries or of a wheel takes a lock that is checked already.
 """
 
 from dialpack.errors import (
-    InvalidDial, InvalidGates, InvalidLock, InvalidNumber, InvalidSpans, InvalidState, InvalidTurn, InvalidTurns,
-    InvalidWheel,
+    InvalidDial, InvalidGates, InvalidLock, InvalidNumber, InvalidSpans, InvalidState, InvalidTries, InvalidTurn,
+    InvalidTurns, InvalidWheel,
 )
 
 LEAST_RING = 2
 MOST_WHEELS = 8
 MOST_TURNS = 60
+MOST_TRIES = 12
 
 
 def is_integer(value):
@@ -53,6 +54,17 @@ def are_places(plays, dial, value):
             return False
         ahead = place
     return True
+
+
+def are_turns(value):
+    return isinstance(value, list) and len(value) <= MOST_TURNS and all([is_turn(turn) for turn in value])
+
+
+def are_numbers(lock, value):
+    ring, plays = lock
+    if not isinstance(value, list) or len(value) != len(plays):
+        return False
+    return all([is_within(number, 0, ring - 1) for number in value])
 
 
 def check_lock(lock):
@@ -123,6 +135,19 @@ def check_number(number, greatest):
         raise InvalidNumber("the number must be an integer from 0 to the greatest one that is possible")
 
 
+def check_at_least(number, least):
+    if not is_at_least(number, least):
+        raise InvalidNumber("the number must be an integer from the least one that is possible on")
+
+
 def check_tolerance(ring, tolerance):
     if not is_within(tolerance, 0, (ring - 1) // 2):
         raise InvalidNumber("the tolerance must be an integer from 0 to (ring - 1) // 2")
+
+
+def check_tries(lock, tries):
+    if not isinstance(tries, list) or len(tries) > MOST_TRIES:
+        raise InvalidTries(None)
+    for index, numbers in enumerate(tries):
+        if not are_numbers(lock, numbers):
+            raise InvalidTries(index)

@@ -63,6 +63,20 @@ def in_gate(ring, place, gate, tolerance):
     return off <= tolerance or off >= ring - tolerance
 
 
+def takes_ring(ring, tolerance):
+    """Return whether every place is in every gate with this tolerance."""
+    return 2 * tolerance == ring - 1
+
+
+def stays_in_gate(ring, stretch, gate, tolerance):
+    """Return whether a wheel is in its gate at all places of a stretch."""
+    # Where a gate takes up the whole ring, a stretch over its end is still in the gate.
+    if takes_ring(ring, tolerance):
+        return True
+    least, greatest = stretch
+    return (least - gate + tolerance) % ring + greatest - least <= 2 * tolerance
+
+
 def is_open(lock, state, gates, tolerance):
     """Return whether all wheels are in their gates."""
     check_lock(lock)

@@ -37,6 +37,24 @@ def state_trail(lock, state, turns):
     return trail
 
 
+def stops_of(dial, turns):
+    """Return the list of the places of the dial behind each of some turns."""
+    stops = []
+    stop = dial
+    for turn in turns:
+        stop = stop + turn
+        stops.append(stop)
+    return stops
+
+
+def place_at(place, reach, stops):
+    """Return the place of a wheel with this reach when the dial has gone from stop to stop."""
+    # The wheels ahead need not be known: the nearest place within its reach of the stop is the wheel's new one.
+    for stop in stops:
+        place = min(max(place, stop - reach), stop)
+    return place
+
+
 def way_of(turns):
     """Return how far turns move the dial in all, up and back."""
     check_turns(turns)

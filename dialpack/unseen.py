@@ -3,7 +3,7 @@
 from dialpack.checks import check_dial, check_gates, check_lock, check_spans, check_tolerance, check_turns
 from dialpack.effects import effect_of
 from dialpack.errors import Impossible
-from dialpack.locks import is_open, is_state, pushed_back, pushed_up
+from dialpack.locks import is_open, is_state, pushed_back, pushed_up, stays_in_gate, takes_ring
 from dialpack.turning import turned_state
 
 
@@ -98,18 +98,10 @@ def _check_opening(lock, dial, spans, turns, gates, tolerance):
     check_tolerance(lock[0], tolerance)
 
 
-def _stays_in_gate(ring, stretch, gate, tolerance):
-    # With this tolerance a gate takes up the whole ring: a stretch over its end is still in the gate.
-    if 2 * tolerance == ring - 1:
-        return True
-    least, greatest = stretch
-    return (least - gate + tolerance) % ring + greatest - least <= 2 * tolerance
-
-
 def _gate_stretches(ring, stretch, gate, tolerance):
     """Return the stretches of the places in a stretch at which a wheel is in its gate."""
     # Otherwise neighbours would touch, and would be one stretch.
-    if 2 * tolerance == ring - 1:
+    if takes_ring(ring, tolerance):
         return [stretch]
     least, greatest = stretch
     first = least - (least - gate + tolerance) % ring
@@ -130,7 +122,7 @@ def must_open(lock, dial, spans, turns, gates, tolerance):
     """Return whether every state that fits is open behind the turns."""
     _check_opening(lock, dial, spans, turns, gates, tolerance)
     behind = _stretches_behind(lock, dial, _fitting_stretches(lock, dial, spans), turns)
-    return all([_stays_in_gate(lock[0], stretch, gate, tolerance) for stretch, gate in zip(behind, gates)])
+    return all([stays_in_gate(lock[0], stretch, gate, tolerance) for stretch, gate in zip(behind, gates)])
 
 
 def can_open(lock, dial, spans, turns, gates, tolerance):

@@ -13,19 +13,50 @@ NO_LISTS = [*OTHER_KINDS, 0, 1, -1, (), (0,), (0, 0, 0), (0, [0]), ([0], [0])]
 NO_PAIRS = [*OTHER_KINDS, 0, 1, [], [100, [90]], (), (100,), (100, [90], 0), ([100, [90]],), ((100, [90]),)]
 
 
+def lists_in(value):
+    """All lists in a value, one for each place where a list stands."""
+    if not isinstance(value, (list, tuple)):
+        return []
+    found = [rows for item in value for rows in lists_in(item)]
+    return [value, *found] if isinstance(value, list) else found
+
+
 def list_ids(value):
-    """The identities of all lists in a value, one for each place where a list stands."""
-    if isinstance(value, list):
-        return [id(value), *[found for item in value for found in list_ids(item)]]
-    if isinstance(value, tuple):
-        return [found for item in value for found in list_ids(item)]
-    return []
+    """The identities of all lists in a value."""
+    return [id(rows) for rows in lists_in(value)]
 
 
 def states_at(lock, dial):
     """All states of a lock with this dial."""
     for gaps in product(*[range(play + 1) for play in lock[1]]):
         yield dial, [dial - sum(gaps[:wheel]) for wheel in range(1, len(gaps) + 1)]
+
+
+def searched_ways(start, step, told, count):
+    """The least number of units to each value that `told` gives for what units lead to, None being no value.
+
+    `step` gives what one unit up or back leads to. The search ends when it has found so many values.
+    """
+    found = {}
+    seen = {start}
+    row = [start]
+    way = 0
+    while True:
+        for one in row:
+            value = told(one)
+            if value is not None:
+                found.setdefault(value, way)
+        if len(found) == count:
+            return found
+        behind = []
+        for one in row:
+            for unit in (1, -1):
+                led = step(one, unit)
+                if led not in seen:
+                    seen.add(led)
+                    behind.append(led)
+        row = behind
+        way += 1
 
 
 class PointCase(unittest.TestCase):
@@ -67,6 +98,15 @@ class PointCase(unittest.TestCase):
             self.assertIs(type(caught.exception), type(expected), args)
             self.assert_same(vars(caught.exception), vars(expected))
         self.assertEqual(repr(args), before, "an argument was modified")
+
+    def check_answer_is_new(self, function, *args):
+        """That what is done to the lists of an answer has no effect on the next answer."""
+        answer = function(*args)
+        before = repr(answer)
+        for rows in lists_in(answer):
+            rows.clear()
+            rows.append(None)
+        self.assertEqual(repr(function(*args)), before)
 
     def run_examples(self, text, count):
         """That examples print what they are followed by, and that all of them were run."""

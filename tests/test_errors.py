@@ -3,11 +3,15 @@
 import unittest
 
 from dialpack import errors
+from dialpack.blind import blind_turns, blind_way, shows_blind
 from dialpack.combos import can_dial, dial_count, forbidden_numbers, gates_rank, nth_gates, open_state
 from dialpack.dialing import goal_turns, goal_way
 from dialpack.effects import effect_of, same_effect, shows_telling, telling_state
 from dialpack.errors import LockError
+from dialpack.hands import greatest_hand, hand_spans, off_list, shows_off, sure_open
 from dialpack.locks import is_lock, is_open, is_state, numbers_of, pushed_back, pushed_up, reach_of
+from dialpack.plays import place_behind, reaches_for, reaches_open
+from dialpack.shortest import least_turns, least_way, shows_dialing
 from dialpack.turning import click_row, joined_turns, moved_wheels, state_trail, turned_state, way_of
 from dialpack.unseen import (
     can_open, gathered_from, gathered_wheels, is_gathered, must_open, open_start, shows_start, wheel_spans,
@@ -87,6 +91,10 @@ BAD_GATES = ([10, 100, -1], errors.InvalidGates(1))
 BAD_NUMBER = (-1, errors.InvalidNumber("-1"))
 UNSEEN, BAD_UNSEEN = (LOCK, 0, None, [5]), [BAD_LOCK, BAD_DIAL, BAD_SPANS, BAD_TURNS]
 OPENING, BAD_OPENING = (*UNSEEN, [3, 50, 61], 0), [*BAD_UNSEEN, BAD_GATES, BAD_NUMBER]
+DIALING, BAD_DIALING = (LOCK, STATE, [3, 50, 61]), [BAD_LOCK, BAD_STATE, BAD_GATES]
+BLIND, BAD_BLIND = (LOCK, 0, [3, 50, 61]), [BAD_LOCK, BAD_DIAL, BAD_GATES]
+HAND, BAD_HAND = (LOCK, STATE, [5], 1), [BAD_LOCK, BAD_STATE, BAD_TURNS, BAD_NUMBER]
+SURE, BAD_SURE = (*HAND, [15, 25, 35], 0), [*BAD_HAND, BAD_GATES, BAD_NUMBER]
 CALLS = [
     (reach_of, (LOCK, 1), [BAD_LOCK, (4, errors.InvalidWheel("4"))]),
     (is_state, (LOCK, STATE), [BAD_LOCK]),
@@ -122,7 +130,27 @@ CALLS = [
     (gates_rank, (LOCK, [3, 50, 61]), [BAD_LOCK, BAD_GATES]),
     (goal_turns, (LOCK, STATE, STATE), [BAD_LOCK, BAD_STATE, OTHER_BAD_STATE]),
     (goal_way, (LOCK, STATE, STATE), [BAD_LOCK, BAD_STATE, OTHER_BAD_STATE]),
+    (least_way, DIALING, BAD_DIALING),
+    (least_turns, DIALING, BAD_DIALING),
+    (shows_dialing, (*DIALING, [5]), BAD_DIALING),
+    (blind_way, BLIND, BAD_BLIND),
+    (blind_turns, BLIND, BAD_BLIND),
+    (shows_blind, (*BLIND, [5]), BAD_BLIND),
+    (hand_spans, HAND, BAD_HAND),
+    (sure_open, SURE, BAD_SURE),
+    (greatest_hand, (LOCK, STATE, [5], [15, 25, 35], 0), [BAD_LOCK, BAD_STATE, BAD_TURNS, BAD_GATES, BAD_NUMBER]),
+    (off_list, SURE, BAD_SURE),
+    (shows_off, (*SURE, [1]), BAD_SURE),
+    (place_behind, (90, [5]), [BAD_NUMBER, BAD_TURNS]),
+    (reaches_for, ([5], 0, 90), [BAD_TURNS, BAD_DIAL, BAD_NUMBER]),
+    (reaches_open, (100, [5], 0, 1, 90), [BAD_NUMBER, BAD_TURNS, BAD_NUMBER, BAD_NUMBER, BAD_NUMBER]),
 ]
+
+# What None is first of all, to functions whose first argument is no lock.
+FIRST_ERRORS = {
+    way_of: errors.InvalidTurns(None), joined_turns: errors.InvalidTurns(None), reaches_for: errors.InvalidTurns(None),
+    place_behind: errors.InvalidNumber(""), reaches_open: errors.InvalidNumber(""),
+}
 
 # Calls that are impossible as they stand.
 UNFIT, WEDGED = [(1, 1), (0, 0), (0, 0)], [3, 50, 57]
@@ -133,6 +161,11 @@ IMPOSSIBLE = [
     (open_start, (LOCK, 0, UNFIT, [5], WEDGED, 0), BAD_OPENING),
     (shows_start, (LOCK, 0, UNFIT, [5], WEDGED, 0, STATE), BAD_OPENING),
     (gates_rank, (LOCK, WEDGED), [BAD_LOCK, BAD_GATES]),
+    (least_way, (LOCK, STATE, WEDGED), BAD_DIALING),
+    (least_turns, (LOCK, STATE, WEDGED), BAD_DIALING),
+    (blind_way, (LOCK, 0, WEDGED), BAD_BLIND),
+    (blind_turns, (LOCK, 0, WEDGED), BAD_BLIND),
+    (greatest_hand, (LOCK, STATE, [5], WEDGED, 0), [BAD_LOCK, BAD_STATE, BAD_TURNS, BAD_GATES, BAD_NUMBER]),
 ]
 
 
@@ -164,7 +197,7 @@ class ErrorOrder(PointCase):
     def test_all_arguments_of_no_kind_at_all(self):
         for function, args, _ in CALLS:
             with self.subTest(function.__name__):
-                error = errors.InvalidTurns(None) if function in (way_of, joined_turns) else errors.InvalidLock(None)
+                error = FIRST_ERRORS.get(function, errors.InvalidLock(None))
                 self.check_error(error, function, *[None for _ in args])
 
     def test_impossible_stands_behind_all_others(self):

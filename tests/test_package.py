@@ -39,6 +39,25 @@ INTERFACE = {
         "nth_gates": ["lock", "index"],
     },
     "dialing": {"goal_turns": ["lock", "state", "goal"], "goal_way": ["lock", "state", "goal"]},
+    "shortest": {
+        "least_way": ["lock", "state", "gates"], "least_turns": ["lock", "state", "gates"],
+        "shows_dialing": ["lock", "state", "gates", "value"],
+    },
+    "blind": {
+        "blind_way": ["lock", "dial", "gates"], "blind_turns": ["lock", "dial", "gates"],
+        "shows_blind": ["lock", "dial", "gates", "value"],
+    },
+    "hands": {
+        "hand_spans": ["lock", "state", "turns", "hand"],
+        "sure_open": ["lock", "state", "turns", "hand", "gates", "tolerance"],
+        "greatest_hand": ["lock", "state", "turns", "gates", "tolerance"],
+        "off_list": ["lock", "state", "turns", "hand", "gates", "tolerance"],
+        "shows_off": ["lock", "state", "turns", "hand", "gates", "tolerance", "value"],
+    },
+    "plays": {
+        "place_behind": ["reach", "turns"], "reaches_for": ["turns", "place", "most"],
+        "reaches_open": ["ring", "turns", "gate", "tolerance", "most"],
+    },
 }
 
 
