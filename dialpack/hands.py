@@ -61,7 +61,7 @@ def greatest_hand(lock, state, turns, gates, tolerance):
     ring, plays = lock
     if not turns or takes_ring(ring, tolerance):
         return None
-    # The last stop alone leads wheel 1 to two places that are farther apart than twice the hand less its play.
+    # The last stop alone takes wheel 1 to two places that are at least twice the hand less its play apart.
     sure, unsure = 0, tolerance + plays[0] + 1
     while unsure - sure > 1:
         middle = (sure + unsure) // 2
@@ -93,8 +93,7 @@ def _off_to(lock, state, wheel, stops, hand, place):
 
 def off_list(lock, state, turns, hand, gates, tolerance):
     """Return a list of offs with which the state behind the turns is not open, None if there is none."""
-    if sure_open(lock, state, turns, hand, gates, tolerance):
-        return None
+    _check_opening(lock, state, turns, hand, gates, tolerance)
     ring = lock[0]
     stops = stops_of(state[0], turns)
     for wheel, gate in enumerate(gates, start=1):

@@ -12,6 +12,8 @@ from dialpack.hands import greatest_hand, hand_spans, off_list, shows_off, sure_
 from dialpack.locks import is_lock, is_open, is_state, numbers_of, pushed_back, pushed_up, reach_of
 from dialpack.plays import place_behind, reaches_for, reaches_open
 from dialpack.shortest import least_turns, least_way, shows_dialing
+from dialpack.texts import parse_gates, parse_lock, parse_state, parse_turns
+from dialpack.tries import is_left, left_count, left_numbers, left_rank, nth_left
 from dialpack.turning import click_row, joined_turns, moved_wheels, state_trail, turned_state, way_of
 from dialpack.unseen import (
     can_open, gathered_from, gathered_wheels, is_gathered, must_open, open_start, shows_start, wheel_spans,
@@ -95,6 +97,8 @@ DIALING, BAD_DIALING = (LOCK, STATE, [3, 50, 61]), [BAD_LOCK, BAD_STATE, BAD_GAT
 BLIND, BAD_BLIND = (LOCK, 0, [3, 50, 61]), [BAD_LOCK, BAD_DIAL, BAD_GATES]
 HAND, BAD_HAND = (LOCK, STATE, [5], 1), [BAD_LOCK, BAD_STATE, BAD_TURNS, BAD_NUMBER]
 SURE, BAD_SURE = (*HAND, [15, 25, 35], 0), [*BAD_HAND, BAD_GATES, BAD_NUMBER]
+BAD_TRIES = ([[0, 0, 0], [0, 0, 100]], errors.InvalidTries(1))
+LEFT, BAD_LEFT = (LOCK, 1, [[3, 50, 61]]), [BAD_LOCK, BAD_NUMBER, BAD_TRIES]
 CALLS = [
     (reach_of, (LOCK, 1), [BAD_LOCK, (4, errors.InvalidWheel("4"))]),
     (is_state, (LOCK, STATE), [BAD_LOCK]),
@@ -144,12 +148,22 @@ CALLS = [
     (place_behind, (90, [5]), [BAD_NUMBER, BAD_TURNS]),
     (reaches_for, ([5], 0, 90), [BAD_TURNS, BAD_DIAL, BAD_NUMBER]),
     (reaches_open, (100, [5], 0, 1, 90), [BAD_NUMBER, BAD_TURNS, BAD_NUMBER, BAD_NUMBER, BAD_NUMBER]),
+    (left_count, LEFT, BAD_LEFT),
+    (is_left, (*LEFT, [3, 50, 61]), [*BAD_LEFT, BAD_GATES]),
+    (left_numbers, (*LEFT, 1), [*BAD_LEFT, (0, errors.InvalidWheel("0"))]),
+    (nth_left, (*LEFT, 0), [*BAD_LEFT, BAD_NUMBER]),
+    (left_rank, (*LEFT, [3, 50, 63]), [*BAD_LEFT, BAD_GATES]),
+    (parse_lock, ("100: 90",), [("100: 90 x", errors.InvalidSyntax(2))]),
+    (parse_turns, ("+5",), [("+5 x", errors.InvalidSyntax(1))]),
+    (parse_state, (LOCK, "0: 0 0 0"), [BAD_LOCK, ("0: 0 x", errors.InvalidSyntax(2))]),
+    (parse_gates, (LOCK, "3-50-61"), [BAD_LOCK, ("3-50", errors.InvalidSyntax(0))]),
 ]
 
 # What None is first of all, to functions whose first argument is no lock.
 FIRST_ERRORS = {
     way_of: errors.InvalidTurns(None), joined_turns: errors.InvalidTurns(None), reaches_for: errors.InvalidTurns(None),
     place_behind: errors.InvalidNumber(""), reaches_open: errors.InvalidNumber(""),
+    parse_lock: errors.InvalidSyntax(None), parse_turns: errors.InvalidSyntax(None),
 }
 
 # Calls that are impossible as they stand.
@@ -166,6 +180,7 @@ IMPOSSIBLE = [
     (blind_way, (LOCK, 0, WEDGED), BAD_BLIND),
     (blind_turns, (LOCK, 0, WEDGED), BAD_BLIND),
     (greatest_hand, (LOCK, STATE, [5], WEDGED, 0), [BAD_LOCK, BAD_STATE, BAD_TURNS, BAD_GATES, BAD_NUMBER]),
+    (left_rank, (*LEFT, [2, 49, 60]), [*BAD_LEFT, BAD_GATES]),
 ]
 
 

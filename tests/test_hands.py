@@ -265,6 +265,22 @@ class Sure(PointCase):
         self.check(False, shows_off, lock, state, [7], 5, [2], 0, [5])
         self.check(False, shows_off, lock, state, [7], 5, [2], 0, [-5])
 
+    def test_all_gates_tolerances_and_hands_of_a_ring(self):
+        lock, state = (12, [3]), (0, [-1])
+        stop = 20
+        for hand in range(16):
+            low, high = stop - hand - 3, stop + hand - 3
+            self.check([(max(low, -1), high)], hand_spans, lock, state, [stop], hand)
+            for gate in range(12):
+                for tolerance in range(6):
+                    near = {(gate + step) % 12 for step in range(-tolerance, tolerance + 1)}
+                    sure = all(place % 12 in near for place in range(low, high + 1))
+                    offs = off_list(lock, state, [stop], hand, [gate], tolerance)
+                    self.assertIs(sure_open(lock, state, [stop], hand, [gate], tolerance), sure)
+                    self.assertIs(offs is None, sure)
+                    if not sure:
+                        self.assertTrue(-hand <= offs[0] <= hand and (stop + offs[0] - 3) % 12 not in near)
+
     def test_sixty(self):
         turns = [1] * 60
         self.check(5, greatest_hand, (100, [20]), (0, [0]), turns, [40], 5)

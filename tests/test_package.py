@@ -58,7 +58,19 @@ INTERFACE = {
         "place_behind": ["reach", "turns"], "reaches_for": ["turns", "place", "most"],
         "reaches_open": ["ring", "turns", "gate", "tolerance", "most"],
     },
+    "tries": {
+        "left_count": ["lock", "tolerance", "tries"], "is_left": ["lock", "tolerance", "tries", "gates"],
+        "left_numbers": ["lock", "tolerance", "tries", "wheel"], "nth_left": ["lock", "tolerance", "tries", "index"],
+        "left_rank": ["lock", "tolerance", "tries", "gates"],
+    },
+    "texts": {
+        "format_lock": ["lock"], "format_turns": ["turns"], "format_state": ["state"], "format_gates": ["gates"],
+        "parse_lock": ["text"], "parse_turns": ["text"], "parse_state": ["lock", "text"],
+        "parse_gates": ["lock", "text"],
+    },
 }
+
+CLASSES = {"live": ["Door"], "console": ["Console"]}
 
 
 def sources():
@@ -75,6 +87,17 @@ class Interface(unittest.TestCase):
                     self.assertTrue(inspect.isfunction(found))
                     self.assertEqual(found.__module__, module.__name__)
                     self.assertEqual(list(inspect.signature(found).parameters), names)
+
+    def test_classes(self):
+        for name, classes in CLASSES.items():
+            module = importlib.import_module("dialpack." + name)
+            for found in [getattr(module, name) for name in classes]:
+                self.assertTrue(inspect.isclass(found))
+                self.assertEqual(found.__module__, module.__name__)
+
+    def test_package_holds_just_these_and_what_they_share(self):
+        names = sorted(path.stem for path in sources())
+        self.assertEqual(names, sorted([*INTERFACE, *CLASSES, "errors", "checks", "__init__"]))
 
 
 class Language(unittest.TestCase):
